@@ -69,3 +69,8 @@ def marks_in(word):
     if word == "" or not all([is_letter(sign) or sign == "-" for sign in word]):
         return None
     return tuple([sign if sign != "-" else "" for sign in word])
+
+
+def numbers_word(numbers):
+    """The word of a tuple of integers, perhaps an empty one."""
+    return form_word(numbers) if len(numbers) > 0 else "-"
