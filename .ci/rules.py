@@ -53,6 +53,9 @@ BARRED_NODES = (
     ast.Import, ast.Global, ast.AsyncFunctionDef, ast.AsyncFor, ast.AsyncWith, ast.Await, ast.Div, ast.MatMult,
     ast.TryStar, ast.MatchClass, ast.MatchMapping,
 )
+VIEWS = {"items", "keys", "values"}
+CHANGING = set("append clear extend insert pop remove reverse setdefault update sort add discard".split())
+LIBRARY_NAMES = {name for names in LIBRARY.values() for name in names}
 CAUGHT_NEVER = {"Exception", "TypeError", "ArithmeticError", "OverflowError", "RuntimeError", "AttributeError"}
 TAKES_GENERATOR = {"list", "tuple", "dict"}
 
@@ -243,6 +246,57 @@ def check_decorators(file, node):
                 file.tell("L4", node, "decorator")
 
 
+def bases_of(node):
+    """What an expression in the head of a loop iterates over, as it is written."""
+    if isinstance(node, ast.Call) and isinstance(node.func, ast.Attribute) and node.func.attr in VIEWS:
+        return bases_of(node.func.value)
+    if isinstance(node, ast.Call) and isinstance(node.func, ast.Name) and node.func.id in ("enumerate", "zip", "reversed"):
+        return {base for part in node.args for base in bases_of(part)}
+    return {ast.unparse(node)} if isinstance(node, (ast.Name, ast.Attribute, ast.Subscript)) else set()
+
+
+def check_loops(file, node):
+    if not isinstance(node, ast.For):
+        return
+    bases = bases_of(node.iter)
+    for part in [inner for statement in node.body for inner in ast.walk(statement)]:
+        changed = None
+        if isinstance(part, ast.Subscript) and isinstance(part.ctx, (ast.Store, ast.Del)):
+            changed = part.value
+        elif isinstance(part, ast.AugAssign):
+            changed = part.target
+        elif isinstance(part, ast.Call) and isinstance(part.func, ast.Attribute) and part.func.attr in CHANGING:
+            changed = part.func.value
+        elif isinstance(part, ast.Call) and isinstance(part.func, ast.Name) and part.func.id in LIBRARY["heapq"]:
+            changed = part.args[0]
+        if changed is not None and ast.unparse(changed) in bases:
+            file.tell("L23", part, f"{ast.unparse(changed)} is changed in a loop over it")
+
+
+def check_bindings(file):
+    imported = {
+        name.name for node in file.tree.body if isinstance(node, ast.ImportFrom) for name in node.names
+    }
+    classes = {node.name for node in file.tree.body if isinstance(node, ast.ClassDef)}
+    bound = [node.name for node in file.tree.body if isinstance(node, (ast.FunctionDef, ast.ClassDef))]
+    bound += [target.id for node in file.tree.body if isinstance(node, ast.Assign) for target in node.targets]
+    bound += sorted(imported)
+    for name in sorted({name for name in bound if bound.count(name) > 1}):
+        file.tell("L15", 0, f"{name} is bound twice")
+    used = {node.id for node in ast.walk(file.tree) if isinstance(node, ast.Name) and isinstance(node.ctx, ast.Load)}
+    for name in sorted(imported - used):
+        file.tell("L16", 0, f"{name} is imported and not used")
+    for node in ast.walk(file.tree):
+        name = node.arg if isinstance(node, ast.arg) else None
+        if isinstance(node, ast.Name) and isinstance(node.ctx, ast.Store) and node.above is not file.tree:
+            name = node.id
+        if name in imported | classes:
+            file.tell("L15", node, f"{name} is an import or a class of the file")
+        if isinstance(node, ast.Name) and node.id in LIBRARY_NAMES & imported:
+            if not isinstance(node.above, ast.Call) or node.above.func is not node:
+                file.tell("L2", node, f"{node.id} is not called")
+
+
 def check_all(package):
     paths = sorted(path for path in package.rglob("*") if "__pycache__" not in path.parts)
     found = [f"{path.name}: L1: no file of the package" for path in paths if path.suffix != ".py" and path.is_file()]
@@ -254,6 +308,7 @@ def check_all(package):
         check_characters(file)
         check_module(file)
         check_imports(file, files)
+        check_bindings(file)
         for node in ast.walk(file.tree):
             check_names(file, node)
             check_size(file, node)
@@ -262,6 +317,7 @@ def check_all(package):
             check_sets(file, node)
             check_expressions(file, node)
             check_decorators(file, node)
+            check_loops(file, node)
     check_cycles(files)
     return found + [line for file in files.values() for line in file.found]
 

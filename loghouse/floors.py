@@ -70,6 +70,16 @@ class Floor:
         return self._useful
 
 
+def stand_after(floor, thing):
+    """The stand behind a value that is a run, None if it is none."""
+    if not isinstance(thing, str):
+        return None
+    try:
+        return floor.stand_of(thing)
+    except CannotDo:
+        return None
+
+
 def are_like(floor, other):
     """Whether two floors have the same people, deeds and logs."""
     house, further = floor.house, other.house

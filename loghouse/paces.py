@@ -1,6 +1,7 @@
 """Whether two tapes of a floor keep pace, or one of them runs ahead for ever."""
 
-from loghouse.errors import CannotDo, NoPace, NoTape
+from loghouse.errors import NoPace, NoTape
+from loghouse.floors import stand_after
 from loghouse.gains import drift_of, first_lead, gains, least_bounds, pace_paper
 from loghouse.houses import House
 from loghouse.kinds import is_int, is_tuple_of
@@ -41,16 +42,6 @@ def are_bounds(floor, tape, other, thing):
             if bounds[target][0] > low + gain or bounds[target][1] < high + gain:
                 return False
     return True
-
-
-def stand_after(floor, thing):
-    """The stand behind a value that is a run, otherwise None."""
-    if not isinstance(thing, str):
-        return None
-    try:
-        return floor.stand_of(thing)
-    except CannotDo:
-        return None
 
 
 def is_drift(floor, tape, other, run, loop):

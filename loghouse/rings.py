@@ -1,6 +1,6 @@
 """Papers that a house goes beyond all bounds: a way, a loop, a last way, and what is looked at behind it."""
 
-from loghouse.kinds import is_between, is_tuple_of
+from loghouse.kinds import is_between
 from loghouse.lattices import basis
 from loghouse.forms import value_of
 from loghouse.ways import end_from, form_ahead, forms_at, is_way, numbers_from, passage_of, passed_on, still

@@ -1,5 +1,6 @@
 """From the spots to which runs lead to stands: those that no string of deeds tells apart are one."""
 
+from loghouse.classes import how_many, numbered
 from loghouse.keeping import all_in_kept, led_tables
 from loghouse.spots import first_spot
 from loghouse.ways import values_of
@@ -68,21 +69,13 @@ def looks_of(house, kept, found):
     return looks
 
 
-def numbered(keys):
-    """For each item of a dict a number, equal ones for equal items."""
-    numbers = {}
-    for name in keys:
-        numbers.setdefault(keys[name], len(numbers))
-    return {name: numbers[keys[name]] for name in keys}
-
-
 def classes_of(house, found, looks):
     """For each spot a number; two have one number if no string of deeds tells them apart."""
     letters = [letter for letter, owner in house.deeds]
     classes = numbered(looks)
     count = 0
-    while len(set(list(classes.values()))) != count:
-        count = len(set(list(classes.values())))
+    while how_many(classes) != count:
+        count = how_many(classes)
         keys = {
             spot: (classes[spot], tuple([
                 classes[found[spot][letter]] if letter in found[spot] else -1 for letter in letters

@@ -55,9 +55,9 @@ def judge_bounds(house):
 
 def bounds_hold(house, thing):
     """Whether any value is a paper that a house stays within bounds, or one that it does not."""
-    if is_tuple_of(thing, 3, 3) and isinstance(thing[0], str) and thing[0] == "within":
+    if is_tuple_of(thing, 3, 3) and thing[0] == "within":
         return within_holds(house, thing)
-    if is_tuple_of(thing, 5, 5) and isinstance(thing[0], str) and thing[0] == "beyond":
+    if is_tuple_of(thing, 5, 5) and thing[0] == "beyond":
         return beyond_holds(house, thing)
     return False
 

@@ -8,7 +8,7 @@ from tests.altering import altered, other_values
 from tests.papers import bounds_right, shown
 from tests.samples import BARE, FULL, MILL, MILL_PARTS, YARD, House, any_values, attributes, made, random_parts
 from tests.walking import letters, strings, way_state
-from tests.yards import AWAY, BLIND, BOUNDED, CHAIN, CUBE, DOUBLE, FOURTH, HELD, LEVEL, MIDDLE, MIRRORS
+from tests.yards import AWAY, BLIND, BOUNDED, CHAIN, CUBE, DOUBLE, FOURTH, HELD, LATE, LEVEL, MIDDLE, MIRRORS
 from tests.yards import ROUND, SHIFTED, SIXTH, STEP, UNBOUNDED, bounded_house, one_person
 
 STAYING = (MILL, BARE) + BOUNDED + tuple(bounded_house(seed) for seed in range(60))
@@ -123,6 +123,25 @@ class JudgeBounds(unittest.TestCase):
         self.assertEqual(len(paper[2]), 1 + 5 + 25 + 250)
         self.assertTrue(bounds_right(house, paper))
         self.assertIs(bounds_hold(house, paper), True)
+
+    def test_ring_of_eight_deeds(self):
+        """Turns by a fourth about two middles, four of them, each with a deed that only leads on; others do nothing."""
+        still, turns = ((0, 1, 0), (0, 0, 1)), (((0, 0, -1), (0, 1, 0)), ((1, 0, -1), (0, 1, 0)))
+        house = one_person(
+            (0, 0), (0,),
+            tuple((0, deed, 1 if deed == "a" else 0, still, ()) for deed in "abcde")
+            + ((1, "a", 0, turns[0], ()), (1, "b", 0, turns[1], ()))
+            + tuple((1, deed, 1, still, ()) for deed in "cde"),
+            (((0, 1, 0),), ()), deeds="abcde",
+        )
+        paper = judge_bounds(house)
+        self.assertTrue(bounds_right(house, paper), paper)
+        self.assertEqual(paper[0], "beyond")
+
+    def test_looks_behind_further_ways(self):
+        paper = judge_bounds(LATE)
+        self.assertEqual(paper[0], "beyond")
+        self.assertIn("b", paper[3])
 
     def test_rings_of_several_deeds(self):
         # Rings of fewer deeds come round here.
@@ -364,8 +383,9 @@ class Beyond(unittest.TestCase):
 
     def test_index(self):
         two = made(MILL_PARTS, arrows=MIRRORS.arrows, looks=((((1, 0),),), (((0, 1), (3, 0)),)))
-        for index, right in ((-2, False), (-1, False), (0, False), (1, True), (2, False), (3, False), (10 ** 39, False)):
-            (self.right if right else self.wrong)(two, "", "ab", "", index)
+        self.right(two, "", "ab", "", 1)
+        for index in (-2, -1, 0, 2, 3, 10 ** 39):
+            self.wrong(two, "", "ab", "", index)
         self.wrong(ROUND, "", "aaa", "", 0)
         self.wrong(ROUND, "", "aaa", "a", 0)
         self.wrong(ROUND, "", "aaa", "aa", 1)

@@ -41,12 +41,12 @@ def right_names(house):
 
 
 WRONG_NAMES = (
-    "", "deed", "Deeds", "deeds ", " deeds", "deeds\n", "deeds0", "log", "log-x", "logs", "log2", "log3", "log-1", "log00",
-    "log01", "log+1", "log1 ", "log 1", "log1\n", "sight", "sight2", "sight00", "sight01", "sight-1", "sight0-a", "sight0-x",
-    "sight1-ab", "sight0-", "deeds-", "log0-", "deeds--a", "log0--", "deeds-a-b", "log0-x-", "log0-yx", "log0-xx",
-    "log0-xyx", "deeds-ba", "deeds-aa", "deeds-A", "deeds-a ", "deeds- a", "deeds-a\n", "deeds-1", "deeds-`", "deeds-{",
-    "log0-x,y", "log0x", "log0_x", "-", "-a", "a", "x", "log2-x", "log9-x", "log10", "sight10", "log0log1", "deeds,log0",
-    "deeds-a{", "LOG0", "loh0", "log0-xY", "log0-a.",
+    "", "deed", "Deeds", "deeds ", " deeds", "deeds\n", "deeds0", "log", "log-x", "logs", "log2", "log3", "log-1",
+    "log00", "log01", "log+1", "log1 ", "log 1", "log1\n", "sight", "sight2", "sight00", "sight01", "sight-1",
+    "sight0-a", "sight0-x", "sight1-ab", "sight0-", "deeds-", "log0-", "deeds--a", "log0--", "deeds-a-b", "log0-x-",
+    "log0-yx", "log0-xx", "log0-xyx", "deeds-ba", "deeds-aa", "deeds-A", "deeds-a ", "deeds- a", "deeds-a\n",
+    "deeds-1", "deeds-`", "deeds-{", "log0-x,y", "log0x", "log0_x", "-", "-a", "a", "x", "log2-x", "log9-x",
+    "log10", "sight10", "log0log1", "deeds,log0", "deeds-a{", "LOG0", "loh0", "log0-xY", "log0-a.",
 )
 
 

@@ -87,7 +87,59 @@ SHIFTED = one_person(
     ((0, "a", 0, ((0, 0, -1), (0, 1, 0)), ()), (0, "b", 0, ((1, 0, -1), (0, 1, 0)), ())),
     (((0, 1, 0),),),
 )
-UNBOUNDED = (STEP, DOUBLE, MIRRORS, ROUND, CHAIN, HELD, SHIFTED)
+# What grows is looked at only behind two further deeds, from which no way leads back.
+LATE = one_person(
+    (0, 5), (2,),
+    (
+        (0, "a", 0, ((1, 1, 0), (0, 0, 1)), ()),
+        (0, "b", 1, ((0, 0, 1), (0, 1, 0)), ()),
+        (1, "b", 2, ((0, 0, 1), (0, 1, 0)), ()),
+    ), ((), ((0, 1, 0),), ((0, 0, 0), (3, 1, 0))),
+)
+UNBOUNDED = (LATE, STEP, DOUBLE, MIRRORS, ROUND, CHAIN, HELD, SHIFTED)
+
+
+# The first log says at once what the second one repeats two marks later; days are whole rounds.
+QUEUE = one_person(
+    (0, 0), (0,),
+    (
+        (0, "a", 1, ((1, 0, 0), (0, 0, 0)), ("x", "")),
+        (0, "b", 1, ((2, 0, 0), (0, 0, 0)), ("y", "")),
+        (1, "a", 2, ((0, 1, 0), (1, 0, 0)), ("x", "")),
+        (1, "b", 2, ((0, 1, 0), (2, 0, 0)), ("y", "")),
+        (2, "a", 2, ((0, 0, 1), (0, 0, 0)), ("", "x")),
+        (2, "b", 2, ((0, 0, 1), (0, 0, 0)), ("", "y")),
+        (2, "c", 0, ((0, 0, 0), (0, 0, 0)), ("", "")),
+    ), ((), (), ()), deeds="abc", logs=2,
+    tests=((2, "a", (0, 1, 0), 1, 1), (2, "b", (0, 1, 0), 2, 2), (2, "c", (0, 1, 0), 0, 0)),
+)
+
+
+def chooser(loops, lasts, firsts=("", "")):
+    """A house in which one of two places is chosen, which the first log tells only at the end of the day.
+
+    At each of the two a deed can be done again and again, which writes t on the first log and loops on the second one;
+    firsts and lasts are what the second log has when the place is chosen, and left.
+    """
+    same = ((0, 1),)
+    return one_person(
+        (0,), (0,),
+        (
+            (0, "a", 1, same, ("m", firsts[0])), (0, "b", 2, same, ("m", firsts[1])),
+            (1, "c", 1, same, ("t", loops[0])), (1, "d", 0, same, ("p", lasts[0])),
+            (2, "c", 2, same, ("t", loops[1])), (2, "d", 0, same, ("q", lasts[1])),
+        ), ((), (), ()), deeds="abcd", logs=2,
+    )
+
+
+# The second log has unlike marks, or one mark more each time, ahead of what tells them.
+UNLIKE_DRIFT = chooser(("x", "y"), ("", ""))
+LONGER_DRIFT = chooser(("x", ""), ("", ""))
+FIRST_DRIFT = chooser(("x", "x"), ("", ""), ("y", "x"))
+# Held back, but no more and no more.
+HELD_BACK = chooser(("", ""), ("", ""), ("x", "y"))
+AT_ONCE = chooser(("x", "x"), ("y", "z"))
+NEVER = chooser(("", ""), ("x", "y"))
 
 
 def turned_form(dice, middles, at):
