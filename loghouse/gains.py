@@ -79,11 +79,9 @@ def loop_with_gain(edges, paths, stand):
         for deed, (target, gain) in edges[here].items():
             if stand in paths[target]:
                 back, rest = paths[target][stand]
+                # If none of these has a gain, no ring through the stand has one.
                 if lead + gain + rest != 0:
                     return path + deed + back
-                # Otherwise the first path to the target, and back, is the one with a gain.
-                if paths[stand][target][1] + rest != 0:
-                    return paths[stand][target][0] + back
     return None
 
 

@@ -92,7 +92,7 @@ def gain_of_arrow(arrow, tape, other):
 def with_lead(house, tape, other):
     """The house with one register more, which has the lead of one tape to another one."""
     for thing in (tape, other):
-        if not isinstance(thing, str) or thing not in ["deeds"] + logs_of(house):
+        if thing not in ["deeds"] + logs_of(house):
             raise NoTape(thing)
     if tape == other:
         raise NoTape(other)

@@ -1,6 +1,7 @@
 """What writes one tape of a floor while it reads another one that tells it, if nothing drifts."""
 
-from loghouse.joint import machine_on
+from loghouse.classes import how_many, numbered
+from loghouse.joint import ends_on, machine_on
 from loghouse.marks import apart, in_common, parted, with_mark
 from loghouse.readers import Reader
 from loghouse.tapes import first_marks
@@ -8,6 +9,29 @@ from loghouse.transducers import least_parts, move_table, read_on
 
 # In the place of a stand, as long as the first mark of a sight is not read.
 AHEAD = -1
+
+
+def folded(machine, ends):
+    """For each stand a number, equal ones for stands from which the same is written in the same ways."""
+    classes = numbered({stand: stand in ends for stand in machine})
+    count = 0
+    while how_many(classes) != count:
+        count = how_many(classes)
+        classes = numbered({
+            stand: (classes[stand], tuple(sorted({
+                (marks, classes[target]) for _, target, marks in machine[stand]
+            }))) for stand in machine
+        })
+    return classes
+
+
+def folded_machine(machine, classes):
+    """The machine of the numbers of its stands."""
+    return {
+        classes[stand]: [("", target, marks) for marks, target in sorted({
+            (written, classes[behind]) for _, behind, written in machine[stand]
+        })] for stand in machine
+    }
 
 
 def closed(machine, found):
@@ -41,11 +65,11 @@ def as_state(found):
 
 
 def moves_of(machine, begun, state):
-    """A dict of marks: what is written surely, and the next state."""
+    """A dict of marks: what is written surely, and the next state. Of begun the last item is the first stand."""
     behind = {}
     for stand, left in state:
         if stand == AHEAD:
-            behind[begun[0][0]] = {0: left + begun[1]}
+            behind[begun[0][0]] = {begun[2]: left + begun[1]}
             continue
         for _, target, (mark, other) in machine[stand]:
             if mark != "":
@@ -57,11 +81,13 @@ def least_writer(floor, tape, other):
     """The least reader."""
     if floor.useful == ():
         return Reader(1, (), (), ())
-    machine = machine_on(floor, (tape, other))
-    begun = (first_marks(floor, tape), first_marks(floor, other))
-    first, start = as_state(closed(machine, {0: begun[1]})) if begun[0] == () else ((), ((AHEAD, ()),))
-    moves = {}
-    ends = {}
+    whole, whole_ends = machine_on(floor, (tape, other)), ends_on(floor)
+    classes = folded(whole, whole_ends)
+    machine = folded_machine(whole, classes)
+    last = {classes[stand]: True for stand in whole_ends}
+    begun = (first_marks(floor, tape), first_marks(floor, other), classes[0])
+    first, start = as_state(closed(machine, {begun[2]: begun[1]})) if begun[0] == () else ((), ((AHEAD, ()),))
+    moves, ends = {}, {}
     layer = [start]
     while layer != []:
         further = []
@@ -71,7 +97,7 @@ def least_writer(floor, tape, other):
             moves[state] = moves_of(machine, begun, state)
             further.extend([target for written, target in list(moves[state].values())])
             for stand, left in state:
-                if stand != AHEAD and floor.is_end(stand):
+                if stand in last:
                     ends[state] = left
         layer = further
     states, first, moves, ends = least_parts(first, moves, ends, start)
