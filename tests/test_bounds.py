@@ -9,11 +9,11 @@ from tests.papers import bounds_right, shown
 from tests.samples import BARE, FULL, MILL, MILL_PARTS, YARD, House, any_values, attributes, made, random_parts
 from tests.walking import letters, strings, way_state
 from tests.yards import AWAY, BLIND, BOUNDED, CHAIN, CUBE, DOUBLE, FOURTH, HELD, LATE, LEVEL, MIDDLE, MIRRORS
-from tests.yards import ROUND, SHIFTED, SIXTH, STEP, UNBOUNDED, bounded_house, one_person
+from tests.yards import ROUND, SHIFTED, SIXTH, STEP, UNBOUNDED, bounded_house, one_person, put_in_all_ways
 
 STAYING = (MILL, BARE) + BOUNDED + tuple(bounded_house(seed) for seed in range(60))
 GOING = (YARD, FULL) + UNBOUNDED
-MIXED = tuple(House(**random_parts(seed)) for seed in range(40))
+MIXED = tuple(House(**random_parts(seed)) for seed in range(25))
 
 
 def kept_values(house, kept, way):
@@ -65,6 +65,16 @@ class JudgeBounds(unittest.TestCase):
                     self.assertEqual(paper[2], spots_of(house, paper[1]))
                 self.assertIs(is_bounded(house), paper[0] == "within")
                 self.assertIs(bounds_hold(house, paper), True)
+
+    def test_other_registers(self):
+        for house in STAYING[:25] + GOING:
+            for other in put_in_all_ways(house):
+                paper = judge_bounds(other)
+                self.assertEqual(paper[0], judge_bounds(house)[0])
+                self.assertTrue(bounds_right(other, paper))
+                self.assertIs(bounds_hold(other, paper), True)
+                if paper[0] == "within":
+                    self.assertEqual(paper[2], spots_of(other, paper[1]))
 
     def test_words_have_at_most_sixty_deeds(self):
         for house in GOING:
@@ -252,7 +262,7 @@ class Within(unittest.TestCase):
     def test_spots_that_are_not_closed(self):
         for house in STAYING[2:30]:
             paper = judge_bounds(house)
-            for at in range(len(paper[2])):
+            for at in range(0, len(paper[2]), 1 + len(paper[2]) // 12):
                 self.wrong(house, paper[:2] + (paper[2][:at] + paper[2][at + 1:],))
 
     def test_no_spots(self):
@@ -280,7 +290,7 @@ class Within(unittest.TestCase):
         self.wrong(MILL, ("within", kept, ((0, ()), (0, (0,)), (0, (1,)))))
 
     def test_altered_papers(self):
-        for house in (MILL, BARE, SIXTH, AWAY, LEVEL, MIDDLE) + STAYING[9:25]:
+        for house in (MILL, BARE, SIXTH, AWAY, LEVEL, MIDDLE) + STAYING[9:17]:
             paper = judge_bounds(house)
             if len(paper[2]) > 6:
                 continue
@@ -412,11 +422,11 @@ class Beyond(unittest.TestCase):
                 self.assertIs(bounds_hold(house, thing), bounds_right(house, thing), thing)
 
     def test_all_short_papers(self):
-        for house in (MIRRORS, ROUND, SHIFTED, HELD):
+        for house in (MIRRORS, ROUND, HELD):
             words = list(strings(house, 3))
             for way in words[:4]:
                 for loop in words:
-                    for last in words[:3]:
+                    for last in words[:2]:
                         paper = ("beyond", way, loop, last, 0)
                         self.assertIs(bounds_hold(house, paper), bounds_right(house, paper), paper)
 

@@ -14,7 +14,7 @@ from tests.papers import bounds_right
 from tests.samples import BARE, FULL, MILL, MILL_PARTS, YARD, any_values, attributes, made
 from tests.walking import behaviour, letters, machine, run_state, runs, strings
 from tests.yards import AWAY, BLIND, CUBE, FOURTH, HELD, LEVEL, MIDDLE, SIXTH, UNBOUNDED, bounded_house
-from tests.yards import one_person
+from tests.yards import one_person, put_in_all_ways
 
 RANDOM = tuple(bounded_house(seed) for seed in range(80))
 STAYING = (MILL, BARE, SIXTH, FOURTH, MIDDLE, AWAY) + RANDOM
@@ -212,6 +212,24 @@ class Stands(unittest.TestCase):
                     floor.stand_of(day[:at]) for day in walking.days(house, 7) for at in range(len(day) + 1)
                 }
                 self.assertEqual(floor.useful, tuple(sorted(met)))
+
+
+class OtherRegisters(unittest.TestCase):
+    """The same house told by other registers, sums of the old ones, has the same floor."""
+
+    def test_floors_are_equal(self):
+        for house in STAYING + (GATE, TRAP, CLOSED, CUBE):
+            floor = Floor(house)
+            for other in put_in_all_ways(house):
+                self.assertEqual(Floor(other), floor)
+                self.assertIsNone(parting_row(Floor(other), floor))
+
+    def test_beyond(self):
+        for house in UNBOUNDED + (YARD, FULL):
+            for other in put_in_all_ways(house):
+                with self.assertRaises(Beyond) as caught:
+                    Floor(other)
+                self.assertTrue(bounds_right(other, caught.exception.paper))
 
 
 class Others(unittest.TestCase):

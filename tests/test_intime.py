@@ -20,11 +20,18 @@ from tests.test_paces import APART, FORK, TURNS
 from tests.test_readers import attributes as parts_of
 from tests.test_tapes import WRONG_NAMES
 from tests.walking import run_state, writing
-from tests.yards import AT_ONCE, FIRST_DRIFT, HELD_BACK, LONGER_DRIFT, MIDDLE, NEVER, QUEUE, UNLIKE_DRIFT, bounded_house
+from tests.yards import AT_ONCE, COUNTED, EITHER_HELD_BACK, FIRST_DRIFT, HELD_BACK, LONGER_DEEDS_DRIFT, LONGER_DRIFT
+from tests.yards import MIDDLE, NEVER, ONE_WRITES_DRIFT, OTHER_WRITES_DRIFT, QUEUE, UNLIKE_DEEDS_DRIFT, UNLIKE_DRIFT
+from tests.yards import bounded_house
 from tests.yards import one_person
 
-DRIFTING = tuple(map(Floor, (UNLIKE_DRIFT, LONGER_DRIFT, FIRST_DRIFT)))
-NAMED = tuple(map(Floor, (MILL, BARE, MIDDLE, TURNS, APART, FORK, QUEUE, HELD_BACK, AT_ONCE, NEVER))) + DRIFTING
+DRIFTING = tuple(map(Floor, (
+    UNLIKE_DRIFT, LONGER_DRIFT, FIRST_DRIFT, UNLIKE_DEEDS_DRIFT, LONGER_DEEDS_DRIFT, ONE_WRITES_DRIFT,
+    OTHER_WRITES_DRIFT,
+)))
+NAMED = tuple(map(Floor, (
+    MILL, BARE, MIDDLE, TURNS, APART, FORK, QUEUE, HELD_BACK, AT_ONCE, NEVER, EITHER_HELD_BACK, COUNTED,
+))) + DRIFTING
 RANDOM = tuple(
     floor for floor in (Floor(bounded_house(seed, people=2, logs=2)) for seed in range(70))
     if 2 <= len(floor.useful) < 7
@@ -186,6 +193,14 @@ class InTime(unittest.TestCase):
         self.assertEqual(parts_of(reader), (
             2, (), ((0, "m", (), 1), (1, "p", ("x",), 0), (1, "q", ("y",), 0), (1, "t", (), 1)), ((0, ()),),
         ))
+
+    def test_unlike_marks_held_back_at_the_same_stands(self):
+        for floor in (Floor(EITHER_HELD_BACK), Floor(COUNTED)):
+            for tape, other in told_pairs(floor):
+                if tape == "log0":
+                    self.assertIsNotNone(lag(floor, tape, other))
+        self.assertEqual(lag(Floor(EITHER_HELD_BACK), "log0", "log1"), 1)
+        self.assertEqual(lag(Floor(COUNTED), "log0", "log1"), 3)
 
     def test_written_ahead_of_the_run(self):
         # What follows is sure before the run writes it.

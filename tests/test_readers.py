@@ -302,6 +302,13 @@ class Least(unittest.TestCase):
         ends = (1, ("a",), ((0, "m", ("b", "a"), 0),), ((0, ("b",)),))
         self.assertEqual(attributes(self.check(ends, "m")), (1, ("a", "b"), ((0, "m", ("a", "b"), 0),), ((0, ()),)))
 
+    def test_what_is_sure_hangs_on_states_far_away(self):
+        for count in (4, 7):
+            moves = tuple((state, "b", (), state + 1) for state in range(count - 1))
+            for last in ((), ("x",), ("x", "x", "z")):
+                ends = tuple((state, ("x", "x", "y")) for state in range(count - 1)) + ((count - 1, last),)
+                self.check((count, (), moves, ends), "b", count, count)
+
     def test_held_back_marks(self):
         parts = (
             3, (), ((0, "a", (), 1), (0, "b", (), 2), (1, "a", ("x",), 1), (2, "a", ("x",), 2)),

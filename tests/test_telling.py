@@ -19,7 +19,7 @@ from tests.tellings import tells_right
 from tests.test_paces import APART, FORK, TURNS
 from tests.test_tapes import WRONG_NAMES
 from tests.yards import AT_ONCE, CUBE, FIRST_DRIFT, HELD_BACK, LONGER_DRIFT, MIDDLE, NEVER, QUEUE, UNLIKE_DRIFT
-from tests.yards import bounded_house, one_person
+from tests.yards import bounded_house, one_person, plain_house
 
 NAMED = (
     MILL, BARE, MIDDLE, TURNS, APART, FORK, QUEUE, UNLIKE_DRIFT, LONGER_DRIFT, FIRST_DRIFT, HELD_BACK, AT_ONCE, NEVER,
@@ -259,6 +259,53 @@ class FewestDeeds(unittest.TestCase):
                     self.assertEqual(found, shown, (row, tape))
 
 
+    def test_runs_that_write_late(self):
+        # The first log aligns both runs; what is unlike stands behind what one of them has written already.
+        for marks, others, deeds in (
+            (("x", "y", ""), ("", "x", "z"), 8), (("x", "y", ""), ("", "x", "y"), None),
+            (("", "x", "z"), ("x", "y", ""), 8), (("x", "x", ""), ("", "x", "x"), None),
+            (("x", "y", "z", "", ""), ("", "", "x", "y", "z"), None),
+            (("x", "y", "z", "", ""), ("", "", "x", "y", "w"), 12),
+            (("x", "y", "z", "", ""), ("", "", "x", "w", "z"), 12),
+            (("x", "y", "z", "", ""), ("", "", "w", "y", "z"), 12),
+            (("", "", "w", "y", "z"), ("x", "y", "z", "", ""), 12),
+            (("x", "", "y"), ("", "x", ""), 8),
+        ):
+            floor = Floor(self.twins(marks, others))
+            self.assertEqual(fewest_deeds(floor, ("log0",), "log1"), deeds, (marks, others))
+
+    @staticmethod
+    def twins(marks, others):
+        """Two days of as many deeds, each of which writes m on the first log, and one of these on the second one."""
+        count = len(marks)
+        one, two = ("a", marks), ("b", others)
+        # The register x tells how many deeds are done, y which day it is: all deeds but the first are at the place 1.
+        deeds = "abcde"[:count]
+        arrows, tests = [], []
+        for choice, (deed, row) in enumerate((one, two)):
+            arrows.append((0, deed, 1 + choice, ((1, 0),), ("m", row[0])))
+            for at in range(1, count):
+                arrows.append((1 + choice, deeds[at], 1 + choice, ((at + 1, 0),), ("m", row[at])))
+                tests.append((1 + choice, deeds[at], (0, 1), at, at))
+            arrows.append((1 + choice, deeds[0], 0, ((9, 0),), ("", "")))
+            tests.append((1 + choice, deeds[0], (0, 1), count, count))
+        for deed in "ab":
+            tests.append((0, deed, (0, 1), 0, 0))
+        return one_person(
+            (0,), (0,), tuple(sorted(arrows)), ((), (), ()), deeds=deeds, logs=2, tests=tuple(sorted(tests)),
+        )
+
+    def test_any_plain_houses(self):
+        for seed in range(60):
+            floor = Floor(plain_house(seed))
+            for row in (("log0",), ("deeds-ab",)):
+                found, shown = fewest_deeds(floor, row, "log1"), fewest_of(floor, row, "log1", 4)
+                if shown is not None:
+                    self.assertLessEqual(found, shown)
+                if found is not None and found <= 4:
+                    self.assertEqual(found, shown)
+
+
 class LeastTellers(unittest.TestCase):
     def expected(self, floor, tape):
         house = floor.house
@@ -365,6 +412,20 @@ class Holds(unittest.TestCase):
         self.wrong(floor, row, "deeds", ("tells", tuple(sorted(table + ((0, 0, ((("",), ()),), (), ()),)))))
         self.wrong(floor, row, "deeds", ("tells", tuple(sorted(table + ((0, 0, ((("q",), ()),), ("r",), ("s",)),)))))
         self.wrong(floor, row, "deeds", ("tells", tuple(sorted(table + ((0, 0, ((("q",), ()),), ("",), ()),)))))
+
+    def test_items_with_other_numbers_of_rests(self):
+        for row in (("log1",), ("log1", "log0"), ("log0", "log1"), ()):
+            table = least_table(QUEUED, row, row[0] if row else "deeds-abc")
+            tape = row[0] if row else "deeds-abc"
+            needed = max(0, len(row) - 1)
+            for count in range(4):
+                for rest in ((("q",), ()), ((), ())):
+                    item = (QUEUED.useful[1], QUEUED.useful[-1], (rest,) * count, ("q",), ())
+                    thing = ("tells", tuple(sorted(table + (item,))))
+                    right = tells_right(QUEUED, row, tape, thing)
+                    self.assertIs(tells_holds(QUEUED, row, tape, thing), right, thing)
+                    if count != needed:
+                        self.assertIs(right, False)
 
     def test_open_items_that_are_not_met(self):
         """Items for pairs at which two days could go on alike must be right, met or not."""

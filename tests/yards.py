@@ -115,19 +115,19 @@ QUEUE = one_person(
 )
 
 
-def chooser(loops, lasts, firsts=("", "")):
+def chooser(loops, lasts, firsts=("", ""), again=("c", "c")):
     """A house in which one of two places is chosen, which the first log tells only at the end of the day.
 
-    At each of the two a deed can be done again and again, which writes t on the first log and loops on the second one;
-    firsts and lasts are what the second log has when the place is chosen, and left.
+    At each of the two a deed of again can be done again and again, which writes t on the first log and loops on the
+    second one; firsts and lasts are what the second log has when the place is chosen, and left.
     """
     same = ((0, 1),)
+    stay = [(1 + at, again[at], 1 + at, same, ("t", loops[at])) for at in (0, 1)]
+    leave = [(1 + at, "d" if again[at] == "c" else "c", 0, same, ("pq"[at], lasts[at])) for at in (0, 1)]
     return one_person(
         (0,), (0,),
         (
-            (0, "a", 1, same, ("m", firsts[0])), (0, "b", 2, same, ("m", firsts[1])),
-            (1, "c", 1, same, ("t", loops[0])), (1, "d", 0, same, ("p", lasts[0])),
-            (2, "c", 2, same, ("t", loops[1])), (2, "d", 0, same, ("q", lasts[1])),
+            (0, "a", 1, same, ("m", firsts[0])), (0, "b", 2, same, ("m", firsts[1])), *sorted(stay + leave),
         ), ((), (), ()), deeds="abcd", logs=2,
     )
 
@@ -136,10 +136,36 @@ def chooser(loops, lasts, firsts=("", "")):
 UNLIKE_DRIFT = chooser(("x", "y"), ("", ""))
 LONGER_DRIFT = chooser(("x", ""), ("", ""))
 FIRST_DRIFT = chooser(("x", "x"), ("", ""), ("y", "x"))
+# The same with unlike deeds in both loops.
+UNLIKE_DEEDS_DRIFT = chooser(("x", "y"), ("", ""), again=("c", "d"))
+LONGER_DEEDS_DRIFT = chooser(("", "x"), ("", ""), again=("c", "d"))
+ONE_WRITES_DRIFT = chooser(("", "x"), ("", ""), ("y", "z"), again=("d", "c"))
+OTHER_WRITES_DRIFT = chooser(("x", ""), ("", ""), ("y", "z"), again=("d", "c"))
 # Held back, but no more and no more.
 HELD_BACK = chooser(("", ""), ("", ""), ("x", "y"))
 AT_ONCE = chooser(("x", "x"), ("y", "z"))
 NEVER = chooser(("", ""), ("x", "y"))
+# Between the same two places one mark or another one may be held back, as the first log has m or n.
+EITHER_HELD_BACK = one_person(
+    (0,), (0,),
+    (
+        (0, "a", 1, ((0, 1),), ("m", "")), (0, "b", 2, ((0, 1),), ("m", "x")),
+        (0, "c", 1, ((0, 1),), ("n", "")), (0, "d", 2, ((0, 1),), ("n", "y")),
+        (1, "e", 0, ((0, 1),), ("p", "")), (2, "e", 0, ((0, 1),), ("q", "")),
+    ), ((), (), ()), deeds="abcde", logs=2,
+)
+# One, two or three marks x are held back, as many as the first log has marks m and n.
+COUNTED = one_person(
+    (0, 0), (0,),
+    (
+        (0, "a", 1, ((0, 0, 1), (0, -1, 0)), ("m", "")), (0, "b", 2, ((0, 0, 1), (0, -1, 0)), ("m", "x")),
+        (1, "c", 1, ((1, 0, 0), (0, 0, 0)), ("n", "")), (1, "d", 1, ((2, 0, 0), (0, 0, 0)), ("n", "")),
+        (1, "e", 0, ((0, 0, 0), (0, 0, 0)), ("p", "")),
+        (2, "c", 2, ((1, 0, 0), (0, 0, 0)), ("n", "x")), (2, "d", 2, ((2, 0, 0), (0, 0, 0)), ("n", "x")),
+        (2, "e", 0, ((0, 0, 0), (0, 0, 0)), ("q", "")),
+    ), ((), (), ()), deeds="abcde", logs=2,
+    tests=((1, "c", (0, 1, 0), 0, 0), (1, "d", (0, 1, 0), 1, 1), (2, "c", (0, 1, 0), 0, 0), (2, "d", (0, 1, 0), 1, 1)),
+)
 
 
 def turned_form(dice, middles, at):
@@ -152,6 +178,16 @@ def turned_form(dice, middles, at):
     factors = [0] * count
     factors[other] = factor
     return (middles[at] - factor * middles[other],) + tuple(factors)
+
+
+def plain_house(seed, marks=("", "m", "n")):
+    """A house of one person whose register is never set, with any arrows between three places."""
+    dice = random.Random(seed)
+    arrows = tuple(
+        (source, deed, dice.randrange(3), ((0, 1),), (dice.choice(marks), dice.choice(("", "x", "y"))))
+        for source in range(3) for deed in "abc" if dice.random() < 0.8
+    )
+    return one_person((0,), (dice.randrange(3),), arrows, ((), (), ()), deeds="abc", logs=2)
 
 
 def plain_look(dice, count):
@@ -198,3 +234,48 @@ def bounded_parts(seed, people=None, most_deeds=3, logs=None):
 
 def bounded_house(seed, **choices):
     return House(**bounded_parts(seed, **choices))
+
+
+def put_otherwise(house, rows, back, middle):
+    """The same house told by other registers: sums of the old ones by rows, and middle; back leads to the old ones."""
+    count = len(house.start)
+
+    def new_form(form):
+        factors = tuple(sum(form[1 + k] * back[k][at] for k in range(count)) for at in range(count))
+        return (form[0] - sum(factor * number for factor, number in zip(factors, middle)),) + factors
+
+    def new_arrow(forms):
+        old = [new_form(form) for form in forms]
+        return tuple(
+            (middle[at] + sum(rows[at][k] * old[k][0] for k in range(count)),) + tuple(
+                sum(rows[at][k] * old[k][1 + column] for k in range(count)) for column in range(count)
+            ) for at in range(count)
+        )
+
+    return House(
+        house.people, house.deeds,
+        tuple(middle[at] + sum(rows[at][k] * house.start[k] for k in range(count)) for at in range(count)),
+        house.places, house.ends, house.logs,
+        tuple(arrow[:3] + (new_arrow(arrow[3]), arrow[4]) for arrow in house.arrows),
+        tuple(sorted((source, deed, new_form(form), low, high) for source, deed, form, low, high in house.tests)),
+        tuple(tuple(tuple(map(new_form, forms)) for forms in row) for row in house.looks),
+    )
+
+
+# Pairs of rows of integers, each of which leads back what the other one leads to.
+TURNED = {
+    1: ((((-1,),), ((-1,),)), (((1,),), ((1,),))),
+    2: (
+        (((1, 1), (0, 1)), ((1, -1), (0, 1))), (((2, 1), (1, 1)), ((1, -1), (-1, 2))),
+        (((3, -2), (-1, 1)), ((1, 2), (1, 3))),
+    ),
+    3: (
+        (((1, 1, 0), (0, 1, 1), (0, 0, 1)), ((1, -1, 1), (0, 1, -1), (0, 0, 1))),
+        (((1, 0, 0), (2, 1, 0), (-1, 3, 1)), ((1, 0, 0), (-2, 1, 0), (7, -3, 1))),
+    ),
+}
+
+
+def put_in_all_ways(house):
+    count = len(house.start)
+    return [put_otherwise(house, rows, back, (5, -2, 3)[:count]) for rows, back in TURNED[count]]
