@@ -22,12 +22,12 @@ from tests.test_tapes import WRONG_NAMES
 from tests.walking import run_state, writing
 from tests.yards import AT_ONCE, COUNTED, EITHER_HELD_BACK, FIRST_DRIFT, HELD_BACK, LONGER_DEEDS_DRIFT, LONGER_DRIFT
 from tests.yards import MIDDLE, NEVER, ONE_WRITES_DRIFT, OTHER_WRITES_DRIFT, QUEUE, UNLIKE_DEEDS_DRIFT, UNLIKE_DRIFT
-from tests.yards import bounded_house
+from tests.yards import LONGER_TURNS_DRIFT, UNLIKE_TURNS_DRIFT, bounded_house
 from tests.yards import one_person
 
 DRIFTING = tuple(map(Floor, (
     UNLIKE_DRIFT, LONGER_DRIFT, FIRST_DRIFT, UNLIKE_DEEDS_DRIFT, LONGER_DEEDS_DRIFT, ONE_WRITES_DRIFT,
-    OTHER_WRITES_DRIFT,
+    OTHER_WRITES_DRIFT, UNLIKE_TURNS_DRIFT, LONGER_TURNS_DRIFT,
 )))
 NAMED = tuple(map(Floor, (
     MILL, BARE, MIDDLE, TURNS, APART, FORK, QUEUE, HELD_BACK, AT_ONCE, NEVER, EITHER_HELD_BACK, COUNTED,

@@ -141,6 +141,21 @@ UNLIKE_DEEDS_DRIFT = chooser(("x", "y"), ("", ""), again=("c", "d"))
 LONGER_DEEDS_DRIFT = chooser(("", "x"), ("", ""), again=("c", "d"))
 ONE_WRITES_DRIFT = chooser(("", "x"), ("", ""), ("y", "z"), again=("d", "c"))
 OTHER_WRITES_DRIFT = chooser(("x", ""), ("", ""), ("y", "z"), again=("d", "c"))
+
+
+def turning(house):
+    """Such a house in which a loop comes to the same stand again only behind four deeds."""
+    still, turn, begin = ((0, 1, 0), (0, 0, 1)), ((0, 0, -1), (0, 1, 0)), ((1, 0, 0), (0, 0, 0))
+    arrows = tuple(
+        (source, deed, target, begin if target == 0 else turn if source == target else still, marks)
+        for source, deed, target, _, marks in house.arrows
+    )
+    looks = (((), ((0, 1, 0), (0, 0, 1)), ((0, 1, 0), (0, 0, 1))),)
+    return House(1, house.deeds, (1, 0), 3, (0,), 2, arrows, (), looks)
+
+
+UNLIKE_TURNS_DRIFT = turning(chooser(("x", "y"), ("", ""), ("y", "x"), again=("c", "d")))
+LONGER_TURNS_DRIFT = turning(chooser(("x", ""), ("", ""), again=("c", "d")))
 # Held back, but no more and no more.
 HELD_BACK = chooser(("", ""), ("", ""), ("x", "y"))
 AT_ONCE = chooser(("x", "x"), ("y", "z"))
