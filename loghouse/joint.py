@@ -13,11 +13,12 @@ from loghouse.tapes import tape_steps
 def machine_on(floor, row):
     """The machine of the useful stands of a floor for a row of tapes."""
     useful = {stand: True for stand in floor.useful}
+    plain = tape_steps(floor, "deeds")
     tables = [tape_steps(floor, tape) for tape in row]
     return {
         stand: [
             (deed, target, tuple([table[stand][at][2] for table in tables]))
-            for at, (deed, target, _) in enumerate(tape_steps(floor, "deeds")[stand]) if target in useful
+            for at, (deed, target, _) in enumerate(plain[stand]) if target in useful
         ] for stand in useful
     }
 
