@@ -8,8 +8,10 @@ def value(form, numbers):
 
 
 def arrow_of(house, place, deed):
-    found = [arrow for arrow in house.arrows if arrow[:2] == (place, deed)]
-    return found[0] if found else None
+    for arrow in house.arrows:
+        if arrow[0] == place and arrow[1] == deed:
+            return arrow
+    return None
 
 
 def done(house, state, deed):
@@ -70,10 +72,13 @@ def ways(house, most):
 
 def runs(house, most):
     """All runs of at most so many deeds, in order."""
-    layer = [""]
+    layer = [("", (0, house.start))]
     for _ in range(most + 1):
-        yield from layer
-        layer = [run + deed for run in layer for deed in letters(house) if run_state(house, run + deed)]
+        yield from (run for run, _ in layer)
+        layer = [
+            (run + deed, done(house, state, deed)) for run, state in layer for deed in letters(house)
+            if can(house, state, deed)
+        ]
 
 
 def is_day(house, run):
@@ -85,36 +90,47 @@ def days(house, most):
     return [run for run in runs(house, most) if is_day(house, run)]
 
 
+def seen(house, state, person):
+    """What a person sees at a place with some registers."""
+    return tuple(value(form, state[1]) for form in house.looks[person][state[0]])
+
+
 def sight(house, run, person):
     """What a person sees behind a run."""
-    place, numbers = run_state(house, run)
-    return tuple(value(form, numbers) for form in house.looks[person][place])
+    return seen(house, run_state(house, run), person)
 
 
 def word(numbers):
     return ",".join(map(str, numbers)) or "-"
 
 
-def mark(house, tape, run):
-    """The mark that the last deed of a run writes on a tape, "" for nothing."""
-    ahead, deed = run[:-1], run[-1]
+def mark_between(house, tape, ahead, deed, behind):
+    """The mark that a deed writes on a tape which leads from one state to another one, "" for nothing."""
     plain, _, blots = tape.partition("-")
     if plain.startswith("sight"):
         person = int(plain[5:])
-        owner = dict(house.deeds)[deed]
-        if owner == person:
-            return deed + ":" + word(sight(house, run, person))
-        return "" if sight(house, ahead, person) == sight(house, run, person) else word(sight(house, run, person))
-    letter = deed
-    if plain != "deeds":
-        letter = arrow_of(house, run_state(house, ahead)[0], deed)[4][int(plain[3:])]
+        if dict(house.deeds)[deed] == person:
+            return deed + ":" + word(seen(house, behind, person))
+        if seen(house, ahead, person) == seen(house, behind, person):
+            return ""
+        return word(seen(house, behind, person))
+    letter = deed if plain == "deeds" else arrow_of(house, ahead[0], deed)[4][int(plain[3:])]
     return "" if letter in blots else letter
+
+
+def mark(house, tape, run):
+    """The mark that the last deed of a run writes on a tape, "" for nothing."""
+    return mark_between(house, tape, run_state(house, run[:-1]), run[-1], run_state(house, run))
 
 
 def writing(house, tape, run):
     """The writing of a tape behind a run."""
-    marks = [word(sight(house, "", int(tape[5:])))] if tape.startswith("sight") else []
-    marks += [mark(house, tape, run[:at]) for at in range(1, len(run) + 1)]
+    state = (0, house.start)
+    marks = [word(seen(house, state, int(tape[5:])))] if tape.startswith("sight") else []
+    for deed in run:
+        behind = done(house, state, deed)
+        marks.append(mark_between(house, tape, state, deed, behind))
+        state = behind
     return tuple(item for item in marks if item != "")
 
 
