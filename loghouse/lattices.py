@@ -61,13 +61,37 @@ def main_columns(rows, width):
     return None
 
 
-def shares(rows, columns, wanted):
-    """How often each row is in a row that is wanted, None if it is no sum of them; columns are their main ones."""
+def without(row, at):
+    """A row without one item."""
+    return row[:at] + row[at + 1:]
+
+
+def cofactor(square, at, column):
+    """The determinant without a row and a column, with the sign that it has in the whole one."""
+    part = determinant([without(row, column) for row in without(square, at)])
+    return part if (at + column) % 2 == 0 else -part
+
+
+def measure_of(rows, columns):
+    """What tells how often each of some rows is in another one; columns are their main ones.
+
+    That is the columns, the determinant there, and for each row what it is with a row of zeros and a one in its place.
+    """
     square = [picked(row, columns) for row in rows]
-    whole = determinant(square)
+    if len(rows) < 2:
+        return columns, determinant(square), [(1,)] * len(rows)
+    count = len(rows)
+    parts = [tuple([cofactor(square, at, column) for column in range(count)]) for at in range(count)]
+    return columns, sum([number * part for number, part in zip(square[0], parts[0])]), parts
+
+
+def shares(rows, measure, wanted):
+    """How often each row is in a row that is wanted, None if it is no sum of them."""
+    columns, whole, parts = measure
+    there = picked(wanted, columns)
     found = []
-    for at in range(len(rows)):
-        share, rest = divmod(determinant(square[:at] + [picked(wanted, columns)] + square[at + 1:]), whole)
+    for part in parts:
+        share, rest = divmod(sum([number * other for number, other in zip(there, part)]), whole)
         if rest != 0:
             return None
         found.append(share)

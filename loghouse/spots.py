@@ -1,7 +1,7 @@
 """Papers that a house stays within bounds: what is kept, and the spots."""
 
 from loghouse.forms import is_form
-from loghouse.keeping import all_in_kept, led_kept, led_tables
+from loghouse.keeping import all_in_kept, led_kept, led_tables, rulers_of
 from loghouse.kinds import is_ascending, is_between, is_int, is_tuple_of
 from loghouse.lattices import main_columns
 from loghouse.ways import forms_at, values_of
@@ -12,24 +12,31 @@ def first_spot(house, kept):
     return (0, values_of(kept[0], house.start))
 
 
-def spots_met(house, kept, most):
-    """The spots to which ways lead, ascending; None if there are more than most, where this is a number."""
-    tables = led_tables(house, kept)
-    layer = [first_spot(house, kept)]
-    met = {layer[0]: True}
-    while layer != []:
-        further = []
-        for place, values in layer:
-            for deed in tables[place]:
-                target, forms = tables[place][deed]
-                spot = (target, values_of(forms, values))
-                if spot not in met:
-                    met[spot] = True
-                    further.append(spot)
-        if most is not None and len(met) > most:
-            return None
-        layer = further
-    return tuple(sorted(list(met)))
+class SpotSearch:
+    """The spots to which ways lead, as far as they are met."""
+
+    def __init__(self, first, steps):
+        self.steps = steps
+        self.queue = [first]
+        self.met = {first: True}
+        # How many of the queue were gone on from.
+        self.taken = 0
+
+
+def are_all_met(search, most):
+    """Goes on for about as many steps as are told; whether all spots are met then."""
+    queue, met, steps = search.queue, search.met, search.steps
+    count = 0
+    while search.taken < len(queue) and count < most:
+        place, values = queue[search.taken]
+        search.taken += 1
+        for _, target, forms in steps[place]:
+            spot = (target, values_of(forms, values))
+            if spot not in met:
+                met[spot] = True
+                queue.append(spot)
+        count += len(steps[place])
+    return search.taken == len(queue)
 
 
 def is_kept_here(house, thing):
@@ -46,8 +53,9 @@ def is_kept(house, thing):
         return False
     if not all([is_kept_here(house, here) for here in thing]):
         return False
-    looked = [all_in_kept(thing[place], forms_at(house, place)) for place in range(house.places)]
-    led = [led_kept(house, thing, arrow) for arrow in house.arrows]
+    rulers = rulers_of(house, thing)
+    looked = [all_in_kept(rulers[place], forms_at(house, place)) for place in range(house.places)]
+    led = [led_kept(rulers, thing, arrow) for arrow in house.arrows]
     return None not in looked and None not in led
 
 

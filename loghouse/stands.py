@@ -1,7 +1,7 @@
 """From the spots to which runs lead to stands: those that no string of deeds tells apart are one."""
 
 from loghouse.classes import how_many, numbered
-from loghouse.keeping import all_in_kept, led_tables
+from loghouse.keeping import all_in_kept, led_tables, rulers_of
 from loghouse.spots import first_spot
 from loghouse.ways import values_of
 
@@ -9,15 +9,17 @@ from loghouse.ways import values_of
 def seen_tables(house, kept):
     """For each place a tuple with what each person looks at, as forms of the kept values."""
     return [
-        tuple([all_in_kept(kept[place], row[place]) for row in house.looks]) for place in range(house.places)
+        tuple([all_in_kept(ruler, row[place]) for row in house.looks])
+        for place, ruler in enumerate(rulers_of(house, kept))
     ]
 
 
 def test_tables(house, kept):
     """For each source and deed the tests as (forms, low, high), the forms being one of the kept values."""
+    rulers = rulers_of(house, kept)
     tables = {arrow[:2]: [] for arrow in house.arrows}
     for source, deed, form, low, high in house.tests:
-        tables[source, deed].append((all_in_kept(kept[source], (form,)), low, high))
+        tables[source, deed].append((all_in_kept(rulers[source], (form,)), low, high))
     return tables
 
 

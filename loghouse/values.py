@@ -2,14 +2,16 @@
 
 from loghouse.errors import NoArrow
 from loghouse.forms import value_of
-from loghouse.keeping import least_kept
+from loghouse.keeping import least_kept, led_tables, steps_led
 from loghouse.kinds import is_tuple_of
-from loghouse.rings import beyond_holds, ring_of, ring_paper
-from loghouse.spots import spots_met, within_holds
+from loghouse.rings import RingSearch, beyond_holds, ring_met, ring_of, ring_paper
+from loghouse.spots import SpotSearch, are_all_met, first_spot, within_holds
 from loghouse.ways import arrow_at, arrows_along, end_from, form_ahead, forms_at, numbers_from, values_of
 
-# More spots than a house is said to have; a greater number costs time alone.
-MANY_SPOTS = 4000
+# Spots and rings are looked for by turns, because it is not known which search comes to an end. These numbers cost
+# time alone: a step of a ring costs some times what a step from spot to spot does.
+SPOT_STEPS = 128
+RING_STEPS = 16
 
 
 def looked_at(house, place):
@@ -44,13 +46,16 @@ def numbers_behind(house, way):
 def judge_bounds(house):
     """A paper that a house stays within bounds, or one that it does not."""
     kept = least_kept(house)
-    spots = spots_met(house, kept, MANY_SPOTS)
-    if spots is None:
-        paper = ring_paper(house)
-        if paper is not None:
-            return paper
-        spots = spots_met(house, kept, None)
-    return ("within", kept, spots)
+    first, steps = first_spot(house, kept), steps_led(led_tables(house, kept))
+    spots = SpotSearch(first, steps)
+    if not are_all_met(spots, SPOT_STEPS):
+        rings = RingSearch(steps, first)
+        ring = ring_met(rings, RING_STEPS)
+        while ring is None and not are_all_met(spots, SPOT_STEPS):
+            ring = ring_met(rings, RING_STEPS)
+        if ring is not None:
+            return ring_paper(house, ring[0], ring[1])
+    return ("within", kept, tuple(sorted(list(spots.met))))
 
 
 def bounds_hold(house, thing):

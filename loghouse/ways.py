@@ -20,14 +20,30 @@ def forms_at(house, place):
 
 def values_of(forms, numbers):
     """The tuple of the values of forms."""
+    # Written out for each number of registers, because all else waits for it.
+    if len(numbers) == 1:
+        x = numbers[0]
+        return tuple([constant + one * x for constant, one in forms])
+    if len(numbers) == 2:
+        x, y = numbers
+        return tuple([constant + one * x + two * y for constant, one, two in forms])
+    if len(numbers) == 3:
+        x, y, z = numbers
+        return tuple([constant + one * x + two * y + three * z for constant, one, two, three in forms])
     return tuple([value_of(form, numbers) for form in forms])
 
 
 def form_ahead(forms, form):
     """The form whose value is that of another one behind the registers are set to the values of forms."""
-    led = [form[0]] + [0] * len(forms)
-    for factor, inner in zip(form[1:], forms):
-        led = [number + factor * other for number, other in zip(led, inner)]
+    if len(forms) == 1:
+        led = [form[1] * one for one in forms[0]]
+    elif len(forms) == 2:
+        _, x, y = form
+        led = [x * one + y * two for one, two in zip(forms[0], forms[1])]
+    else:
+        _, x, y, z = form
+        led = [x * one + y * two + z * three for one, two, three in zip(forms[0], forms[1], forms[2])]
+    led[0] += form[0]
     return tuple(led)
 
 
@@ -38,7 +54,14 @@ def still(count):
 
 def passed_on(forms, further):
     """The passage of one way behind another one."""
-    return tuple([form_ahead(forms, form) for form in further])
+    if len(forms) < 3 or len(forms[0]) < 4:
+        return tuple([form_ahead(forms, form) for form in further])
+    # Most time goes by with passages of three registers.
+    (a, b, c, d), (e, f, g, h), (i, j, k, m) = forms
+    return tuple([
+        (one + x * a + y * e + z * i, x * b + y * f + z * j, x * c + y * g + z * k, x * d + y * h + z * m)
+        for one, x, y, z in further
+    ])
 
 
 def arrows_along(house, place, way):
