@@ -80,6 +80,12 @@ def stand_after(floor, thing):
         return None
 
 
+def is_day(floor, thing):
+    """Whether a value is a day."""
+    stand = stand_after(floor, thing)
+    return stand is not None and floor.is_end(stand)
+
+
 def are_like(floor, other):
     """Whether two floors have the same people, deeds and logs."""
     house, further = floor.house, other.house

@@ -1,5 +1,8 @@
 """Kinds of values that many parts are made of. Each function takes any value."""
 
+# The least integer of 41 digits.
+GREAT = 10 ** 40
+
 
 def is_int(thing):
     """Whether a value is an integer; a bool is none."""
@@ -9,6 +12,11 @@ def is_int(thing):
 def is_between(thing, low, high):
     """Whether a value is an integer from low to high."""
     return is_int(thing) and low <= thing <= high
+
+
+def is_short(thing):
+    """Whether a value is an integer of at most 40 digits, the sign not counted."""
+    return is_int(thing) and abs(thing) < GREAT
 
 
 def is_letter(thing):
@@ -24,3 +32,12 @@ def is_tuple_of(thing, low, high):
 def is_ascending(items):
     """Whether items that can be compared are sorted, without duplicates."""
     return all([ahead < behind for ahead, behind in zip(items, items[1:])])
+
+
+def are_same(thing, other):
+    """Whether a value is equal to one of tuples, strings, integers and bools, a bool being no integer."""
+    if isinstance(other, tuple):
+        if not is_tuple_of(thing, len(other), len(other)):
+            return False
+        return all([are_same(item, further) for item, further in zip(thing, other)])
+    return isinstance(thing, bool) == isinstance(other, bool) and thing == other

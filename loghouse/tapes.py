@@ -5,14 +5,24 @@ from loghouse.kinds import is_ascending, is_letter
 from loghouse.words import numbers_word
 
 
+def log_names(count):
+    """The names of so many logs."""
+    return [f"log{at}" for at in range(count)]
+
+
+def sight_names(people):
+    """The names of the sights of so many people."""
+    return [f"sight{person}" for person in range(people)]
+
+
 def logs_of(house):
     """The names of the logs."""
-    return [f"log{at}" for at in range(house.logs)]
+    return log_names(house.logs)
 
 
 def sights_of(house):
     """The names of the sights."""
-    return [f"sight{person}" for person in range(house.people)]
+    return sight_names(house.people)
 
 
 def tapes(floor):
@@ -26,16 +36,22 @@ def parts_of(name):
     return plain, blots
 
 
-def is_tape(floor, thing):
-    """Whether any value is a tape of a floor."""
+def is_tape_among(people, logs, thing):
+    """Whether any value is a tape of a floor with so many people and logs."""
     if not isinstance(thing, str):
         return False
+    blotted = ["deeds"] + log_names(logs)
     if "-" not in thing:
-        return thing in tapes(floor)
+        return thing in blotted + sight_names(people)
     plain, blots = parts_of(thing)
-    if plain not in ["deeds"] + logs_of(floor.house):
+    if plain not in blotted:
         return False
     return blots != "" and all([is_letter(sign) for sign in blots]) and is_ascending(blots)
+
+
+def is_tape(floor, thing):
+    """Whether any value is a tape of a floor."""
+    return is_tape_among(floor.house.people, floor.house.logs, thing)
 
 
 def check_tape(floor, thing):

@@ -4,7 +4,7 @@ from itertools import combinations
 
 from loghouse.errors import NotTold
 from loghouse.fewest import fewest
-from loghouse.floors import stand_after
+from loghouse.floors import is_day
 from loghouse.kinds import is_tuple_of
 from loghouse.rows import check_row_and_tape, first_without_pace
 from loghouse.tables import judged, table_holds
@@ -15,12 +15,6 @@ def tells(floor, row, tape):
     """A paper that a row of tapes tells a tape, or one that it does not."""
     check_row_and_tape(floor, row, tape)
     return judged(floor, row, tape)
-
-
-def is_day(floor, thing):
-    """Whether a value is a day."""
-    stand = stand_after(floor, thing)
-    return stand is not None and floor.is_end(stand)
 
 
 def are_parted(floor, row, tape, day, further):
