@@ -32,12 +32,3 @@ def is_tuple_of(thing, low, high):
 def is_ascending(items):
     """Whether items that can be compared are sorted, without duplicates."""
     return all([ahead < behind for ahead, behind in zip(items, items[1:])])
-
-
-def are_same(thing, other):
-    """Whether a value is equal to one of tuples, strings, integers and bools, a bool being no integer."""
-    if isinstance(other, tuple):
-        if not is_tuple_of(thing, len(other), len(other)):
-            return False
-        return all([are_same(item, further) for item, further in zip(thing, other)])
-    return isinstance(thing, bool) == isinstance(other, bool) and thing == other

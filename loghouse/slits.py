@@ -1,11 +1,11 @@
 """Slits: whether a narrow look at a tape tells a question."""
 
 from loghouse.asking import are_unlike_answers, machine_with
-from loghouse.kinds import are_same, is_tuple_of
+from loghouse.kinds import is_tuple_of
 from loghouse.questionparts import check_question
 from loghouse.stages import end_answers, first_stage
 from loghouse.tapes import check_tape, first_marks, writing_of
-from loghouse.views import view_of, view_with
+from loghouse.views import are_rows, view_of, view_with
 
 MOST_WIDTH = 3
 
@@ -25,8 +25,6 @@ class Looks:
         self.first = (first_stage(floor, question), view_of(slit, first_marks(floor, tape)))
         # For each pair of a stage and a view: the one ahead of it, and the deed.
         self.ahead = {self.first: None}
-        # For each view of days: the answer, and a pair with it.
-        self.told = {}
 
 
 def run_to(looks, node):
@@ -47,24 +45,51 @@ def nodes_behind(looks, node):
     ]
 
 
-def days_apart(looks):
-    """Two days with one view, the first one answered True, the other one False; None if there are none."""
+def day_refused(looks, is_fine):
+    """The first pair of an end with a view that is not fine, by view, answer and pair; None if all are."""
     queue = [looks.first] if looks.machine != {} else []
     taken = 0
     while taken < len(queue):
         node = queue[taken]
         taken += 1
         stage, seen = node
-        if stage in looks.answers:
-            answer, other = looks.told.setdefault(seen, (looks.answers[stage], node))
-            if answer != looks.answers[stage]:
-                days = (run_to(looks, other), run_to(looks, node))
-                return days if answer else days[::-1]
+        if stage in looks.answers and not is_fine(seen, looks.answers[stage], node):
+            return node
         for deed, behind in nodes_behind(looks, node):
             if behind not in looks.ahead:
                 looks.ahead[behind] = (node, deed)
                 queue.append(behind)
     return None
+
+
+def judged(floor, tape, slit, question):
+    """A paper that a slit at a tape tells a question, or one that it does not."""
+    looks = Looks(floor, tape, slit, question)
+    told = {}
+
+    def is_fine(seen, answer, node):
+        return told.setdefault(seen, (answer, node))[0] == answer
+
+    node = day_refused(looks, is_fine)
+    if node is None:
+        return ("seen", tuple(sorted([(seen, told[seen][0]) for seen in told])))
+    answer, other = told[node[1]]
+    days = (run_to(looks, other), run_to(looks, node))
+    return ("parts",) + (days if answer else days[::-1])
+
+
+def seen_holds(floor, tape, slit, question, thing):
+    """Whether any value is the tuple of all views of days with their answers."""
+    if not are_rows(thing):
+        return False
+    rows = {seen: answer for seen, answer in thing}
+    found = {}
+
+    def is_fine(seen, answer, node):
+        found.setdefault(seen, node)
+        return rows.get(seen) == answer
+
+    return day_refused(Looks(floor, tape, slit, question), is_fine) is None and len(found) == len(thing)
 
 
 def check_tape_and_question(floor, tape, question):
@@ -73,25 +98,17 @@ def check_tape_and_question(floor, tape, question):
     check_question(floor, question)
 
 
-def rows_of(looks):
-    """The ascending tuple of all views of days, with the answers; all days were gone through."""
-    return tuple(sorted([(seen, looks.told[seen][0]) for seen in looks.told]))
-
-
 def slit_asked(floor, tape, slit, question):
     """A paper that a slit at a tape tells a question, or one that it does not."""
     check_tape_and_question(floor, tape, question)
-    looks = Looks(floor, tape, slit, question)
-    days = days_apart(looks)
-    return ("seen", rows_of(looks)) if days is None else ("parts",) + days
+    return judged(floor, tape, slit, question)
 
 
 def slit_holds(floor, tape, slit, question, thing):
     """Whether any value is a paper that a slit at a tape tells a question, or one that it does not."""
     check_tape_and_question(floor, tape, question)
     if is_tuple_of(thing, 2, 2) and thing[0] == "seen":
-        looks = Looks(floor, tape, slit, question)
-        return days_apart(looks) is None and are_same(thing[1], rows_of(looks))
+        return seen_holds(floor, tape, slit, question, thing[1])
     if is_tuple_of(thing, 3, 3) and thing[0] == "parts":
         _, day, further = thing
         if not are_unlike_answers(floor, question, day, further):
@@ -109,7 +126,7 @@ def least_slits(floor, tape, question):
         for most in range(1, MOST_WIDTH + 1):
             # What a narrower slit tells is told by this one, too.
             known = tells.get((width - 1, most), False) or tells.get((width, most - 1), False)
-            tells[width, most] = known or days_apart(Looks(floor, tape, (width, most), question)) is None
+            tells[width, most] = known or judged(floor, tape, (width, most), question)[0] == "seen"
             if tells[width, most] and not known:
                 found.append((width, most))
     return tuple(found)

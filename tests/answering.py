@@ -275,11 +275,34 @@ def slit_right(floor, tape, slit, question, thing):
     return view(slit, one) == view(slit, other)
 
 
-def surely(floor, row, question, run, most):
-    """The answers for all runs of at most so many deeds with the same writings on a row as a run."""
-    house = floor.house
+def sure(house, row, question, run):
+    """What a row surely tells behind a run: all runs whose writings go on as these do, one deed after the other.
+
+    Of runs to one state with the same writings so far and the same marks met, the first one is enough.
+    """
     wanted = [walking.writing(house, tape, run) for tape in row]
-    return {
-        answer(house, question, other) for other in walking.runs(house, most)
-        if [walking.writing(house, tape, other) for tape in row] == wanted
-    }
+
+    def node(other):
+        lengths = []
+        for tape, writing in zip(row, wanted):
+            found = walking.writing(house, tape, other)
+            if found != writing[:len(found)]:
+                return None
+            lengths.append(len(found))
+        met = tuple(did[2] in walking.writing(house, did[1], other) for did in dids(question))
+        return walking.run_state(house, other), tuple(lengths), met
+
+    met = {node(""): ""}
+    queue = [""]
+    answers = set()
+    for other in queue:
+        if all(walking.writing(house, tape, other) == writing for tape, writing in zip(row, wanted)):
+            answers.add(answer(house, question, other))
+        state = walking.run_state(house, other)
+        for deed in walking.letters(house):
+            if walking.can(house, state, deed):
+                behind = node(other + deed)
+                if behind is not None and behind not in met:
+                    met[behind] = other + deed
+                    queue.append(other + deed)
+    return answers.pop() if len(answers) == 1 else None

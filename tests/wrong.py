@@ -28,6 +28,9 @@ def wrong_kinds(value):
             yield from wrong_letters(value)
         else:
             yield from (None, (), [], 0, False, " ", "-", ".", "A", "ab", "\n")
+    elif not isinstance(value, tuple):
+        # None, or an object of the package.
+        yield from ((), [value], (value,), 0, False, "", "None", {})
     else:
         yield from wrong_tuples(value)
         for at, item in enumerate(value):
