@@ -12,10 +12,9 @@ class Desk:
 
     def __init__(self, floor):
         self.floor = floor
-        self._run = ""
-        self._stand = 0
         # The last one taken back stands last.
         self._undone = []
+        self._come("", 0)
 
     def __len__(self):
         return len(self._run)
@@ -33,15 +32,20 @@ class Desk:
     @property
     def is_day(self):
         """Whether the run is a day."""
-        return self.floor.is_end(self._stand)
+        return self._is_day
+
+    def _come(self, run, stand):
+        """Comes to a stand along a run."""
+        self._run = run
+        self._stand = stand
+        self._is_day = self.floor.is_end(stand)
 
     def do(self, deed):
         """Does a deed."""
         behind = self.floor.step(self._stand, deed) if isinstance(deed, str) else None
         if behind is None:
             raise CannotDo(deed)
-        self._run += deed
-        self._stand = behind
+        self._come(self._run + deed, behind)
         self._undone = []
 
     def undo(self):
@@ -49,16 +53,15 @@ class Desk:
         if self._run == "":
             raise NothingToUndo()
         self._undone.append(self._run[-1])
-        self._run = self._run[:-1]
-        self._stand = self.floor.stand_of(self._run)
+        run = self._run[:-1]
+        self._come(run, self.floor.stand_of(run))
 
     def redo(self):
         """Does the deed again that was taken back last."""
         if self._undone == []:
             raise NothingToRedo()
         deed = self._undone.pop()
-        self._stand = self.floor.step(self._stand, deed)
-        self._run += deed
+        self._come(self._run + deed, self.floor.step(self._stand, deed))
 
     def tape(self, tape):
         """The writing of a tape behind the run."""
