@@ -306,6 +306,24 @@ class LeastSlits(unittest.TestCase):
         self.assertEqual(least_slits(counter(3), "log0-x", question), ())
         self.assertEqual(least_slits(LAST, "log0", ("sees", 0, (1, 0))), ((3, 1),))
 
+    def test_no_greater_numbers(self):
+        """Wider slits than three, or counts of more than three, would tell; there are none."""
+        first = one_person(
+            (0, 0, 0), (2,), (
+                (0, "a", 1, ((0, 1, 0, 0), (0, 0, 1, 0), (0, 0, 0, 1)), ("x",)),
+                (1, "a", 1, ((1, 0, 0, 0), (0, 1, 0, 0), (0, 0, 1, 0)), ("x",)),
+                (1, "b", 2, ((0, 1, 0, 0), (0, 0, 1, 0), (0, 0, 0, 1)), ("",)),
+            ), ((), (), ((0, 0, 0, 1),)), tests=((1, "a", (0, 0, 0, 1), 0, 0),), logs=1,
+        )
+        self.assertEqual(walking.days(first, 9), ["ab", "aab", "aaab", "aaaab"])
+        self.assertEqual(least_slits(Floor(first), "log0", ("sees", 0, (1,))), ((2, 3), (3, 2)))
+        third = Floor(one_person(
+            (0, 0, 0), (0,), tuple(
+                (0, deed, 0, ((at, 0, 0, 0), (0, 1, 0, 0), (0, 0, 1, 0)), ("xy"[at],)) for at, deed in enumerate("ab")
+            ), (((0, 0, 0, 1),),), logs=1,
+        ))
+        self.assertEqual(least_slits(third, "log0", ("sees", 0, (1,))), ())
+
     def test_none_at_all(self):
         self.assertEqual(least_slits(FLOOR, "log0", ("did", "deeds", "b")), ())
         self.assertEqual(least_slits(FLOOR, "deeds", ("sees", 0, (1,))), ())
